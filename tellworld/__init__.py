@@ -1,0 +1,1 @@
+"""Tellworld: a world told by rules, for a player of words."""

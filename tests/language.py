@@ -1,0 +1,154 @@
+"""Tells where a source keeps outside ../shared/LANGUAGE.md, for those of its rules that a walk over the source shows."""
+
+import ast
+import re
+
+BUILT_IN = (
+    "len range enumerate zip min max sum abs sorted reversed int str bool list tuple dict set frozenset "
+    "isinstance ord repr any all divmod Exception ValueError TypeError KeyError IndexError LookupError "
+    "ZeroDivisionError ArithmeticError OverflowError RuntimeError NotImplementedError AttributeError StopIteration"
+).split()
+METHODS = (
+    "append clear copy count endswith extend find get index insert isalnum isalpha isdigit islower isspace isupper "
+    "items join keys ljust lower lstrip partition pop remove replace reverse rfind rjust rpartition rsplit rstrip "
+    "setdefault split splitlines startswith strip update upper values zfill bit_length add discard"
+).split()
+PYTHONS_OWN = {name for kind in (str, int, list, tuple, dict, set, bytes) for name in dir(kind)}
+DUNDERS = ("__init__", "__eq__", "__repr__", "__str__", "__len__")
+NO_ATTRIBUTES = "register mro elements open input version_info with_traceback add_note format format_map".split()
+NO_WORDS = re.compile(
+    r"\b(type|typing|typing_extensions|enum|Enum|IntEnum|StrEnum|Flag|IntFlag|Generic|Protocol|ABC|ABCMeta|namedtuple"
+    r"|NamedTuple|TypedDict|TYPE_CHECKING|abstractmethod)\b|dataclass|overload|contextmanager"
+)
+NODES = (
+    "Module Import ImportFrom alias FunctionDef ClassDef arguments arg Return Assign AugAssign For While If Raise Try "
+    "ExceptHandler Expr Pass Break Continue BoolOp And Or Not BinOp Add Sub Mult FloorDiv Mod Pow LShift RShift BitOr "
+    "BitXor BitAnd UnaryOp USub UAdd Invert Lambda IfExp Dict Set ListComp comprehension Compare Eq NotEq Lt LtE Gt "
+    "GtE Is IsNot In NotIn Call keyword FormattedValue JoinedStr Constant Attribute Subscript Slice Name List Tuple "
+    "Load Store"
+).split()
+
+
+def faults(source, package="tellworld"):
+    tree = ast.parse(source)
+    found = text_faults(source) + top_faults(tree, package) + name_faults(tree)
+    for node in ast.walk(tree):
+        found.extend(node_faults(node))
+    return found
+
+
+def text_faults(source):
+    found = []
+    rows = source.split("\n")
+    if len(rows) > 401:
+        found.append("L10 file")
+    for number, row in enumerate(rows, start=1):
+        if len(row) > 120:
+            found.append(f"L10 line {number}")
+        if any(not " " <= sign <= "~" for sign in row):
+            found.append(f"L14 sign, line {number}")
+        if NO_WORDS.search(row):
+            found.append(f"L17 word, line {number}")
+    return found
+
+
+def top_faults(tree, package):
+    found = []
+    bound = []
+    for node in tree.body:
+        if isinstance(node, ast.ImportFrom):
+            if node.level or not (node.module or "").startswith(package + "."):
+                found.append(f"L2 import, line {node.lineno}")
+            bound.extend(alias.asname or alias.name for alias in node.names)
+        elif isinstance(node, (ast.FunctionDef, ast.ClassDef)):
+            bound.append(node.name)
+        elif isinstance(node, ast.Assign):
+            bound.extend(target.id for target in node.targets if isinstance(target, ast.Name))
+        elif not is_docstring(node):
+            found.append(f"L3 top, line {node.lineno}")
+    found.extend(f"L15 {name} twice" for name in set(bound) if bound.count(name) > 1)
+    inner = [node for top in tree.body for node in ast.walk(top) if node is not top]
+    found.extend("L2 inner import" for node in inner if isinstance(node, (ast.Import, ast.ImportFrom)))
+    return found
+
+
+def is_docstring(node):
+    return isinstance(node, ast.Expr) and isinstance(node.value, ast.Constant) and isinstance(node.value.value, str)
+
+
+def name_faults(tree):
+    found = []
+    bound = set()
+    for node in ast.walk(tree):
+        if isinstance(node, (ast.FunctionDef, ast.ClassDef)):
+            bound.add(node.name)
+        elif isinstance(node, ast.alias):
+            bound.add(node.asname or node.name)
+        elif isinstance(node, ast.arg):
+            bound.add(node.arg)
+        elif isinstance(node, ast.ExceptHandler) and node.name:
+            bound.add(node.name)
+        elif isinstance(node, ast.Name) and isinstance(node.ctx, ast.Store):
+            bound.add(node.id)
+    for name in sorted(bound):
+        if name.startswith("_") and name not in DUNDERS:
+            found.append(f"L12 {name}")
+        if name in BUILT_IN:
+            found.append(f"L8 {name} given another meaning")
+    for node in ast.walk(tree):
+        if isinstance(node, ast.Name) and node.id not in bound and node.id not in BUILT_IN:
+            found.append(f"L8 {node.id}, line {node.lineno}")
+    return found
+
+
+def node_faults(node):
+    kind = node.__class__.__name__
+    where = f"line {node.lineno}" if hasattr(node, "lineno") else ""
+    found = [] if kind in NODES else [f"L6 or L7 {kind} {where}"]
+    if isinstance(node, ast.FunctionDef):
+        found.extend(function_faults(node, where))
+    elif isinstance(node, ast.ClassDef):
+        if node.decorator_list or node.keywords or len(node.bases) > 1:
+            found.append(f"L5 class {where}")
+        if not all(isinstance(row, (ast.FunctionDef, ast.Pass)) or is_docstring(row) for row in node.body):
+            found.append(f"L5 class body {where}")
+    elif isinstance(node, ast.Attribute):
+        if node.attr in NO_ATTRIBUTES or (node.attr.startswith("_") and node.attr not in DUNDERS):
+            found.append(f"L17 or L12 {node.attr} {where}")
+    elif isinstance(node, ast.Call) and isinstance(node.func, ast.Attribute):
+        if node.func.attr in PYTHONS_OWN and node.func.attr not in METHODS + list(DUNDERS):
+            found.append(f"L25 {node.func.attr} {where}")
+    elif isinstance(node, ast.Compare):
+        found.extend(compare_faults(node, where))
+    elif isinstance(node, ast.Constant):
+        if isinstance(node.value, (float, bytes, complex)) or (isinstance(node.value, str) and "%" in node.value):
+            found.append(f"L7 or L27 value {where}")
+    elif isinstance(node, (ast.For, ast.While)) and node.orelse or isinstance(node, ast.Try) and node.finalbody:
+        found.append(f"L6 else or finally {where}")
+    elif isinstance(node, ast.Assign) and len(node.targets) > 1:
+        found.append(f"L6 targets {where}")
+    elif isinstance(node, ast.ListComp) and (len(node.generators) > 1 or len(node.generators[0].ifs) > 1):
+        found.append(f"L7 comprehension {where}")
+    elif isinstance(node, ast.Expr) and not isinstance(node.value, ast.Call) and not is_docstring(node):
+        found.append(f"L6 expression {where}")
+    return found
+
+
+def function_faults(node, where):
+    given = node.args
+    found = []
+    if given.vararg or given.kwarg or given.kwonlyargs or given.posonlyargs or node.decorator_list:
+        found.append(f"L4 function {where}")
+    if node.end_lineno - node.lineno + 1 > 40:
+        found.append(f"L10 function {where}")
+    return found
+
+
+def compare_faults(node, where):
+    beside = [node.left] + node.comparators
+    for place, sign in enumerate(node.ops):
+        if isinstance(sign, (ast.Is, ast.IsNot)):
+            two = beside[place:place + 2]
+            if not any(isinstance(one, ast.Constant) and one.value in (None, True, False) for one in two):
+                return [f"L20 {where}"]
+    return []
