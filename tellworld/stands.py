@@ -1,6 +1,6 @@
 """Stands: where each thing is and what each mark shows (points 13, 14)."""
 
-from tellworld.words import is_whole
+from tellworld.words import is_same_text, is_whole
 
 
 def first_stand(world):
@@ -57,11 +57,6 @@ def is_two(thing):
 
 def is_part(thing, part):
     return is_two(thing) and is_same_text(thing[0], part[0]) and is_same_text(thing[1], part[1])
-
-
-def is_same_text(thing, text):
-    # The kind is asked first, since == of a strange object may tell anything, or fail.
-    return isinstance(thing, str) and thing == text
 
 
 def is_value(world, part, value):

@@ -4,6 +4,8 @@ Nothing is refused here: whether the fields are right is asked when a world is m
 each field is kept just as it was handed in.
 """
 
+KINDS = ("room", "plain", "fixed", "box", "lamp", "you")
+FORMS = ("alone", "one", "two", "way")
 KINDS_THAT_HOLD = ("room", "box", "you")
 KINDS_WITH_MARK = ("box", "lamp")
 KINDS_APART = ("room", "you")

@@ -1,4 +1,4 @@
-"""Names, words and whole numbers: what counts as one, and the words of a row (points 2, 6, 7)."""
+"""Names, words and whole numbers: what counts as one, of anything; and the words of a row (points 2, 6, 7)."""
 
 MOST_IN_NAME = 8
 MOST_IN_WORD = 12
@@ -19,9 +19,22 @@ def is_word(thing):
     return is_small_letters(thing, MOST_IN_WORD) and thing not in NO_WORDS
 
 
+def is_same_text(thing, text):
+    # The kind is asked first, since == of a strange object may tell anything, or fail.
+    return isinstance(thing, str) and thing == text
+
+
+def is_one_of(thing, texts):
+    return isinstance(thing, str) and thing in texts
+
+
 def is_whole(thing):
     # True and False are ints to Python, but no whole numbers here.
     return isinstance(thing, int) and not isinstance(thing, bool)
+
+
+def is_list_up_to(thing, most):
+    return isinstance(thing, list) and len(thing) <= most
 
 
 def words_of(row):

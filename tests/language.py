@@ -1,6 +1,7 @@
 """Tells where a source keeps outside ../shared/LANGUAGE.md, for those of its rules that a walk over the source shows."""
 
 import ast
+import builtins
 import re
 
 BUILT_IN = (
@@ -29,12 +30,139 @@ NODES = (
 ).split()
 
 
+WALKED = ("zip", "enumerate", "reversed", "range")
+WALKED_METHODS = ("items", "keys", "values")
+WALKERS = ("list", "tuple", "dict", "sorted", "sum", "any", "all", "enumerate", "zip", "min", "max")
+KEYS = ("len", "int", "str", "abs", "sum", "min", "max", "tuple")
+KEYWORDS = {
+    "sorted": ("key", "reverse"), "min": ("key", "default"), "max": ("key", "default"), "sum": ("start",),
+    "enumerate": ("start",), "zip": ("strict",),
+}
+
+
 def faults(source, package="tellworld"):
     tree = ast.parse(source)
-    found = text_faults(source) + top_faults(tree, package) + name_faults(tree)
+    found = text_faults(source) + top_faults(tree, package) + name_faults(tree) + local_faults(tree)
+    found.extend(clash_faults([source]))
+    parents = {}
+    for node in ast.walk(tree):
+        for child in ast.iter_child_nodes(node):
+            parents[child] = node
+    classes = [node.name for node in tree.body if isinstance(node, ast.ClassDef)]
+    classes.extend(name for name in imported(tree) if name[0].isupper() and not name.isupper())
     for node in ast.walk(tree):
         found.extend(node_faults(node))
+        found.extend(place_faults(node, parents, classes))
     return found
+
+
+def imported(tree):
+    return [alias.asname or alias.name for node in tree.body if isinstance(node, ast.ImportFrom) for alias in node.names]
+
+
+def local_faults(tree):
+    """L15: what a parameter or a local may not be called."""
+    barred = set(dir(builtins)) | set(imported(tree)) | {row.name for row in tree.body if isinstance(row, ast.ClassDef)}
+    found = []
+    for function in ast.walk(tree):
+        if isinstance(function, (ast.FunctionDef, ast.Lambda)):
+            for node in ast.walk(function):
+                if isinstance(node, ast.arg) and node.arg in barred:
+                    found.append(f"L15 {node.arg}, line {node.lineno}")
+                if isinstance(node, ast.Name) and isinstance(node.ctx, ast.Store) and node.id in barred:
+                    found.append(f"L15 {node.id}, line {node.lineno}")
+    return found
+
+
+def clash_faults(sources):
+    """L18: names that are a method in one class and a value in another, or twice a method in one."""
+    methods, values, found = set(), set(), []
+    for source in sources:
+        for node in ast.walk(ast.parse(source)):
+            if isinstance(node, ast.ClassDef):
+                own = [row.name for row in node.body if isinstance(row, ast.FunctionDef)]
+                found.extend(f"L18 {name} twice" for name in set(own) if own.count(name) > 1)
+                methods.update(own)
+            elif isinstance(node, ast.Attribute) and isinstance(node.ctx, ast.Store):
+                values.add(node.attr)
+    return found + [f"L18 {name} is a method and a value" for name in sorted(methods & values)]
+
+
+def place_faults(node, parents, classes):
+    parent = parents.get(node)
+    where = f"line {node.lineno}" if hasattr(node, "lineno") else ""
+    if isinstance(node, ast.Name) and isinstance(node.ctx, ast.Load):
+        if node.id in classes and not is_class_place(node, parent, parents):
+            return [f"L18 class {node.id} {where}"]
+        if node.id in BUILT_IN and not is_built_in_place(node, parent, parents):
+            return [f"L22 {node.id} {where}"]
+    if isinstance(node, ast.Call):
+        return call_faults(node, parent, where)
+    if isinstance(node, ast.ExceptHandler):
+        return except_faults(node, where)
+    if isinstance(node, ast.Set) and not (isinstance(parent, ast.Compare) and len(node.elts) < 3):
+        return [f"L13 or L24 set {where}"]
+    if isinstance(node, ast.FunctionDef) and node.name == "__init__":
+        if any(isinstance(row, ast.Return) and row.value for row in ast.walk(node)):
+            return [f"L28 __init__ {where}"]
+    return []
+
+
+def is_class_place(node, parent, parents):
+    if isinstance(parent, ast.Tuple):
+        parent = parents[parent]
+        return isinstance(parent, ast.Call) and called(parent) == "isinstance"
+    if isinstance(parent, ast.Call):
+        return parent.func is node or called(parent) == "isinstance"
+    return isinstance(parent, (ast.ClassDef, ast.ExceptHandler, ast.Raise))
+
+
+def is_built_in_place(node, parent, parents):
+    if is_class_place(node, parent, parents):
+        return True
+    return isinstance(parent, ast.keyword) and parent.arg == "key" and node.id in KEYS
+
+
+def called(call):
+    return call.func.id if isinstance(call.func, ast.Name) else ""
+
+
+def call_faults(node, parent, where):
+    name = called(node)
+    method = node.func.attr if isinstance(node.func, ast.Attribute) else ""
+    found = []
+    if name in WALKED or (method in WALKED_METHODS and not node.args):
+        if not is_walked(node, parent):
+            found.append(f"L23 {name or method} {where}")
+    if name == "set" and not is_set_place(node, parent):
+        found.append(f"L24 {where}")
+    for keyword in node.keywords:
+        if (name in BUILT_IN and keyword.arg not in KEYWORDS.get(name, ())) or method in METHODS:
+            found.append(f"L22 keyword {keyword.arg} {where}")
+    return found
+
+
+def is_walked(node, parent):
+    if isinstance(parent, (ast.For, ast.comprehension)):
+        return parent.iter is node
+    if not isinstance(parent, ast.Call) or node not in parent.args:
+        return False
+    if isinstance(parent.func, ast.Attribute):
+        return parent.func.attr == "join" and isinstance(parent.func.value, ast.Constant)
+    return called(parent) in WALKERS and parent.args[0] is node
+
+
+def is_set_place(node, parent):
+    if isinstance(parent, ast.Compare):
+        return True
+    if isinstance(parent, ast.BinOp):
+        return isinstance(parent.op, (ast.Sub, ast.BitAnd, ast.BitOr, ast.BitXor))
+    return isinstance(parent, ast.Call) and called(parent) in ("sorted", "len") and not parent.keywords
+
+
+def except_faults(node, where):
+    names = [name.id for name in ast.walk(node.type) if isinstance(name, ast.Name)] if node.type else ["all"]
+    return [f"L19 {name} {where}" for name in names if name in ("all", "Exception", "TypeError", "AttributeError")]
 
 
 def text_faults(source):

@@ -1,7 +1,7 @@
 import itertools
 import unittest
 
-from standin import cellar_world, random_stands, stand_where
+from cellar import cellar_world, random_stands, stand_where
 from tellworld.asks import At, Both, Has, Kind, Lit, Marked, Not, Seen, Test, Word, test_of
 from tellworld.stands import is_stand
 

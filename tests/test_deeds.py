@@ -1,9 +1,10 @@
 import itertools
 import unittest
 
-from standin import cellar_world, random_stands, stand_where
+from cellar import bare_world, cellar_world, random_stands, stand_where
 from tellworld.deeds import Deed, Move, Put, deed_of
 from tellworld.stands import at_of, is_stand, mark_of, with_part
+from tellworld.things import Thing
 
 WORLD = cellar_world()
 FIRST = stand_where(WORLD)
@@ -120,6 +121,13 @@ class Moves(Case):
         self.told(Move("me", "me"), (), None)
         # What is within it at the first stand still counts as changed: that hangs on the stand.
         self.told(Move("bag", "chest"), BOX_PARTS, ("at", "bag"))
+
+    def test_a_place_here_can_hold_in_a_world_of_one_room_too(self):
+        things = [Thing("den", ("den",), "room"), Thing("i", ("i",), "you", "den"), Thing("gem", ("gem",), "box", "i")]
+        world = bare_world(things)
+        self.assertEqual(Move("it", "here").change(world, "gem", None), ("at", "gem"))
+        self.assertEqual(Move("it", "here").reads(world, "gem", None), (("at", "gem"), ("at", "i")))
+        self.assertIsNone(Move("den", "here").change(world, None, None))
 
     def test_change_of_none(self):
         self.told(Move("it", "hall"), (), None)

@@ -3,7 +3,7 @@ import pathlib
 import re
 import unittest
 
-from language import faults
+from language import clash_faults, faults
 
 PACKAGE = pathlib.Path(__file__).resolve().parent.parent / "tellworld"
 WRONG = (
@@ -32,6 +32,33 @@ WRONG = (
     "x = '" + "b" * 120 + "'\n",
     "class C:\n    x = 1\n",
     "class C(ValueError, KeyError):\n    pass\n",
+    "def f(x):\n    return x in {1, 2, 3}\n",
+    "def f(filter):\n    return filter\n",
+    "from tellworld.words import is_name\ndef f(is_name):\n    return is_name\n",
+    "class C:\n    pass\ndef f(x):\n    C = x\n    return C\n",
+    "class C:\n    pass\ndef f():\n    return [C]\n",
+    "class C:\n    pass\ndef f(x):\n    return x(C)\n",
+    "class C:\n    def x(self):\n        return 1\nclass D:\n    def __init__(self):\n        self.x = 1\n",
+    "class C:\n    def x(self):\n        return 1\n    def x(self):\n        return 2\n",
+    "class C:\n    def __init__(self):\n        return None\n",
+    "def f(x):\n    try:\n        return x[0]\n    except TypeError:\n        return 0\n",
+    "def f(x):\n    try:\n        return x[0]\n    except (KeyError, Exception):\n        return 0\n",
+    "def f(x):\n    try:\n        return x[0]\n    except:\n        return 0\n",
+    "def f(x):\n    y = zip(x, x)\n    return y\n",
+    "def f(x):\n    return x.items()\n",
+    "def f(x):\n    return set(x)\n",
+    "def f(x):\n    for y in set(x):\n        return y\n",
+    "def f(x):\n    return sorted(set(x), key=len)\n",
+    "def f(x):\n    return [len, x]\n",
+    "def f(x):\n    return dict(y=x)\n",
+    "def f(x):\n    return x.split(sep=' ')\n",
+)
+RIGHT = (
+    "def f(x):\n    return sorted(set(x))\n",
+    "def f(x):\n    return len(set(x)) == len(x) and set(x) == set(x)\n",
+    "def f(x):\n    return [y for y, z in zip(x, x)] + list(x.items())\n",
+    "def f(x):\n    return sorted(x, key=len, reverse=True)\n",
+    "class C:\n    pass\ndef f(x):\n    return isinstance(x, (C, int)) or C()\n",
 )
 
 
@@ -40,6 +67,14 @@ class Language(unittest.TestCase):
         for path in sorted(PACKAGE.rglob("*.py")):
             with self.subTest(path=path.name):
                 self.assertEqual(faults(path.read_text(encoding="utf-8")), [])
+
+    def test_no_name_is_a_method_here_and_a_value_there(self):
+        self.assertEqual(clash_faults([path.read_text(encoding="utf-8") for path in PACKAGE.rglob("*.py")]), [])
+
+    def test_what_is_inside_is_let_by(self):
+        for source in RIGHT:
+            with self.subTest(source=source):
+                self.assertEqual(faults(source), [])
 
     def test_only_plain_files_lie_in_the_package(self):
         for path in PACKAGE.iterdir():

@@ -1,7 +1,7 @@
 import itertools
 import unittest
 
-from standin import cellar_world, stand_where
+from cellar import cellar_world, stand_where
 from tellworld.seeing import has, holders_of, in_open, is_lit, is_seen, room_of, seen
 from tellworld.stands import is_stand
 

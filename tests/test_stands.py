@@ -1,8 +1,10 @@
 import unittest
 
-from standin import StandInWorld, cellar_world
+from cellar import bare_world, cellar_world
+from strange import EqualToAll, FailsAtEquals
 from tellworld.stands import at_of, first_stand, is_stand, mark_of, with_part
 from tellworld.things import Mark, Thing
+from tellworld.worlds import World
 
 FIRST = (
     (("at", "altar"), "cellar"),
@@ -20,22 +22,6 @@ FIRST = (
     (("mark", "torch"), 0),
 )
 PARTS = [part for part, value in FIRST]
-
-
-class EqualToAll:
-    def __eq__(self, other):
-        return True
-
-    def __hash__(self):
-        return 0
-
-
-class FailsAtEquals:
-    def __eq__(self, other):
-        raise RuntimeError("asked")
-
-    def __hash__(self):
-        raise RuntimeError("asked")
 
 
 STRANGE = (
@@ -104,12 +90,12 @@ class FirstStand(unittest.TestCase):
         self.assertNotIn(("mark", "hall"), parts)
 
     def test_least_world(self):
-        world = StandInWorld([Thing("den", ("den",), "room"), Thing("i", ("i",), "you", "den")], [])
+        world = bare_world([Thing("den", ("den",), "room"), Thing("i", ("i",), "you", "den")], [])
         self.assertEqual(first_stand(world), ((("at", "i"), "den"),))
 
     def test_starts_of_own_marks(self):
         things = [Thing("den", ("den",), "room"), Thing("i", ("i",), "you", "den")]
-        world = StandInWorld(things, [Mark("z", 0, 3), Mark("b", 3, 3), Mark("k", 1, 1)])
+        world = bare_world(things, [Mark("z", 0, 3), Mark("b", 3, 3), Mark("k", 1, 1)])
         self.assertEqual(
             first_stand(world),
             ((("at", "i"), "den"), (("mark", "b"), 3), (("mark", "k"), 1), (("mark", "z"), 0)),
@@ -122,11 +108,14 @@ class FirstStand(unittest.TestCase):
         self.assertEqual((world.names(), world.parts()), (names, parts))
 
     def test_later_changes_reach_no_stand(self):
-        world = cellar_world()
-        stand = first_stand(world)
-        world.things.clear()
-        world.marks.clear()
-        self.assertEqual(stand, FIRST)
+        things = [Thing("den", ("den",), "room"), Thing("i", ("i",), "you", "den")]
+        marks = [Mark("tide", 2, 3)]
+        world = World(things, marks, [], [], [], [])
+        things.clear()
+        marks.append(Mark("door", 0, 1))
+        world.own_marks().clear()
+        world.parts().clear()
+        self.assertEqual(first_stand(world), ((("at", "i"), "den"), (("mark", "tide"), 2)))
 
 
 class Values(unittest.TestCase):
@@ -223,7 +212,7 @@ class RightStands(unittest.TestCase):
         names = ["b" * count for count in range(1, 8)]
         things = [Thing("den", ("den",), "room"), Thing("i", ("i",), "you", "den")]
         things = things + [Thing(name, (name,), "box", "den") for name in names]
-        world = StandInWorld(things, [])
+        world = bare_world(things, [])
         stand = with_part(first_stand(world), ("at", names[0]), "i")
         for inner, outer in zip(names[1:], names):
             stand = with_part(stand, ("at", inner), outer)
@@ -232,7 +221,7 @@ class RightStands(unittest.TestCase):
         self.assertIs(is_stand(world, ring), False)
 
     def test_least_world(self):
-        world = StandInWorld([Thing("den", ("den",), "room"), Thing("i", ("i",), "you", "den")], [])
+        world = bare_world([Thing("den", ("den",), "room"), Thing("i", ("i",), "you", "den")], [])
         self.assertIs(is_stand(world, ((("at", "i"), "den"),)), True)
         self.assertIs(is_stand(world, ()), False)
 

@@ -1,7 +1,8 @@
 import string
 import unittest
 
-from tellworld.words import is_name, is_whole, is_word, words_of
+from strange import EqualToAll, FailsAtEquals
+from tellworld.words import is_list_up_to, is_name, is_one_of, is_same_text, is_whole, is_word, words_of
 
 BARRED = ("it", "other", "here", "the", "a", "undo", "restart")
 NO_TEXTS = (None, True, False, 0, 1, 7, -1, 1.5, [], ["lamp"], (), ("lamp",), {}, {"lamp": 1}, b"lamp", object())
@@ -126,6 +127,27 @@ class Wholes(unittest.TestCase):
     def test_truths_and_others(self):
         for thing in (True, False, None, 1.0, "1", [1], (1,), {1: 1}, object()):
             self.assertIs(is_whole(thing), False)
+
+
+class TextsAndLists(unittest.TestCase):
+    def test_same_text(self):
+        self.assertIs(is_same_text("lamp", "lamp"), True)
+        self.assertIs(is_same_text("lamps", "lamp"), False)
+        for thing in NO_TEXTS + (EqualToAll(), FailsAtEquals()):
+            self.assertIs(is_same_text(thing, "lamp"), False)
+
+    def test_one_of(self):
+        self.assertIs(is_one_of("lamp", ("coin", "lamp")), True)
+        self.assertIs(is_one_of("lam", ("coin", "lamp")), False)
+        self.assertIs(is_one_of("lamp", []), False)
+        for thing in NO_TEXTS + (EqualToAll(), FailsAtEquals()):
+            self.assertIs(is_one_of(thing, ("coin", "lamp")), False)
+
+    def test_list_up_to(self):
+        for count in range(5):
+            self.assertIs(is_list_up_to([None] * count, 3), count <= 3)
+        for thing in ((), (1,), "", "lamp", {}, None, 3, object()):
+            self.assertIs(is_list_up_to(thing, 3), False)
 
 
 class WordsOfARow(unittest.TestCase):
