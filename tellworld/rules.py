@@ -63,6 +63,11 @@ def are_deeds(world, form, deeds):
     return is_list_up_to(deeds, MOST_DEEDS) and all([is_deed(world, form, deed) for deed in deeds])
 
 
+def is_wish(world, thing):
+    # A wish is asked without a command, so no form is there that lets by it, other, here or a word.
+    return is_test(world, None, thing, MOST_DEEP)
+
+
 def is_test(world, form, test, deep):
     # Asked from the top, so that a test far too deep, or one within itself, is left behind at once.
     if deep == 0:
@@ -107,6 +112,10 @@ def is_by_command(form, thing):
     return is_same_text(thing, "other") and form == "two"
 
 
+def is_here(form, thing):
+    return form is not None and is_same_text(thing, "here")
+
+
 def named(world, thing):
     return world.thing_of(thing) if isinstance(thing, str) else None
 
@@ -116,11 +125,11 @@ def is_of_kind(world, thing, kind):
 
 
 def is_term(world, form, thing):
-    return is_by_command(form, thing) or is_same_text(thing, "here") or named(world, thing) is not None
+    return is_by_command(form, thing) or is_here(form, thing) or named(world, thing) is not None
 
 
 def is_place(world, form, thing):
-    if is_by_command(form, thing) or is_same_text(thing, "here"):
+    if is_by_command(form, thing) or is_here(form, thing):
         return True
     return named(world, thing) is not None and named(world, thing).can_hold()
 

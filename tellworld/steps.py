@@ -2,7 +2,7 @@
 
 from tellworld.asks import things_of
 from tellworld.errors import NoCommand
-from tellworld.seeing import is_seen
+from tellworld.seeing import seen
 
 NOTHING_COMES = "Nothing comes of it."
 CANNOT_BE = "That cannot be."
@@ -59,8 +59,24 @@ def is_object(world, thing):
 
 def step(world, stand, command):
     check_command(world, command)
+    return all_steps(world, stand, [command])[0]
+
+
+def all_steps(world, stand, every):
+    # What is seen hangs on the stand alone, so it is asked once for all of the commands.
+    in_sight = seen(world, stand)
+    return [answered(world, stand, command, in_sight) for command in every]
+
+
+def goings(world, stand, every):
+    # Only what is told leads on: every other answer leaves the stand as it was.
+    steps = all_steps(world, stand, every)
+    return [(command, result[1]) for command, result in zip(every, steps) if result[0][0] == "told"]
+
+
+def answered(world, stand, command, in_sight):
     for name in things_of(world, command):
-        if name is not None and not is_seen(world, stand, name):
+        if name is not None and name not in in_sight:
             return (("unseen", name), stand)
     for rule in world.rules_to_try(command[0]):
         if fits(world, stand, command, rule):
