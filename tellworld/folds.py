@@ -38,11 +38,11 @@ def all_needs(world, every, parts):
 
 def needs(world, command, parts):
     # What decides whether the command changes one of the parts, and to what.
-    things = things_of(world, command)
-    rules = world.rules_to_try(command[0])
-    changing = [place for place, rule in enumerate(rules) if changes(world, rule, things, parts)]
+    changing = changing_places(world, command, parts)
     if len(changing) == 0:
         return []
+    things = things_of(world, command)
+    rules = world.rules_to_try(command[0])
     needed = []
     for name in things:
         if name is not None:
@@ -52,6 +52,17 @@ def needs(world, command, parts):
     for place in changing:
         needed.extend(reads_of(world, rules[place].deeds, things))
     return needed
+
+
+def commands_on(world, parts):
+    # Every other command leaves each fold by the parts as it is, and need not be tried.
+    return [command for command in commands(world) if len(changing_places(world, command, parts)) > 0]
+
+
+def changing_places(world, command, parts):
+    things = things_of(world, command)
+    rules = world.rules_to_try(command[0])
+    return [place for place, rule in enumerate(rules) if changes(world, rule, things, parts)]
 
 
 def changes(world, rule, things, parts):

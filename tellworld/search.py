@@ -1,14 +1,14 @@
 """The fewest commands to a wish, or that none lead to it, with what shows it (point 32)."""
 
-from tellworld.folds import fold, matters
-from tellworld.steps import commands, goings
+from tellworld.folds import commands_on, fold, matters
+from tellworld.steps import goings
 
 
 def find(world, stand, wish, most):
     parts = matters(world, wish)
     if wish.holds(world, stand, None):
         return ("rows", [], parts, [])
-    every = commands(world)
+    every = commands_on(world, parts)
     walks = {fold(stand, parts): []}
     layer = [(stand, [])]
     while len(layer) > 0 and len(walks) <= most:

@@ -27,7 +27,8 @@ class World:
         self.kept_rules = list(rules)
         self.shared_rules = common_rules(self.your_name, ways)
         # Copies, so that what is done later to the lists within a rule that was handed in changes nothing.
-        self.rules_by_verb = by_verb([copy_of(rule) for rule in rules] + self.shared_rules)
+        self.copied_rules = [copy_of(rule) for rule in rules]
+        self.rules_by_verb = by_verb(self.copied_rules + self.shared_rules)
 
     def names(self):
         return [thing.name for thing in self.kept_things]
@@ -78,6 +79,10 @@ class World:
     def rules_to_try(self, name):
         # What rules_of tells, but as the world's own copies of them, which are only to be read.
         return list(self.rules_by_verb.get(name, []))
+
+    def rules_to_write(self):
+        # What own_rules tells, but as the world's own copies, which are only to be read.
+        return list(self.copied_rules)
 
     def parts(self):
         at = [("at", thing.name) for thing in self.kept_things if thing.kind != "room"]

@@ -19,7 +19,8 @@ class Parts:
     def __init__(self, draw):
         self.rooms = ["hall", "loft", "yard"][:draw.choice([1, 2, 2, 3])]
         self.beside = draw.sample(BESIDE, draw.choice([1, 2, 3]))
-        self.marks = [Mark("tide", draw.choice([0, 1, 2]), 2), Mark("door", draw.choice([0, 1]), 1)][:draw.choice([0, 1, 2])]
+        self.marks = [Mark("tide", draw.choice([0, 1, 2]), 2),
+            Mark("door", draw.choice([0, 1]), 1)][:draw.choice([0, 1, 2])]
         self.holders = self.rooms + ["me"]
         self.things = [Thing(name, (name,), "room") for name in self.rooms]
         self.things.append(Thing("me", ("me",), "you", draw.choice(self.rooms)))

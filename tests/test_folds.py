@@ -61,7 +61,8 @@ class Bell(unittest.TestCase):
     """Small worlds whose parts that matter are reckoned by hand."""
 
     def world(self, rules=(), ways=(), things=(), verbs=()):
-        rooms = [Thing("hall", ("hall",), "room"), Thing("loft", ("loft",), "room"), Thing("me", ("me",), "you", "hall")]
+        rooms = [Thing("hall", ("hall",), "room"), Thing("loft", ("loft",), "room"),
+            Thing("me", ("me",), "you", "hall")]
         marks = [Mark("bell", 0, 1), Mark("rope", 0, 3), Mark("wind", 0, 1), Mark("rain", 0, 1)]
         own = [Verb("ring", (), "alone"), Verb("pull", (), "way")] + list(verbs)
         return World(rooms + list(things), marks, ["loft"], list(ways), own, list(rules))
@@ -270,14 +271,20 @@ def needed(world, wish, parts):
     return found
 
 
+def closed_from(world, wish, parts):
+    """The least closed list that has these parts, too."""
+    parts = set(parts)
+    while not needed(world, wish, parts) <= parts:
+        parts |= needed(world, wish, parts)
+    return sorted(parts)
+
+
 class Drawn(unittest.TestCase):
     def test_the_least_closed_list(self):
         draw = random.Random(5)
         for number, world in enumerate(drawn_worlds(21, 60)):
             for wish in drawn_wishes(world, number, 4):
-                parts = set()
-                while not needed(world, wish, parts) <= parts:
-                    parts |= needed(world, wish, parts)
+                parts = set(closed_from(world, wish, []))
                 self.assertEqual(matters(world, wish), sorted(parts))
                 for count in range(5):
                     some = draw.sample(world.parts(), draw.randint(0, len(world.parts())))
@@ -289,10 +296,12 @@ class Drawn(unittest.TestCase):
         draw = random.Random(8)
         for number, world in enumerate(drawn_worlds(33, 60)):
             for wish in drawn_wishes(world, number, 3):
-                parts = matters(world, wish)
-                for stand in drawn_stands(world, number, 4):
-                    self.go_alike(world, wish, parts, stand, self.with_the_same_fold(draw, world, parts, stand))
-                    self.go_alike(world, wish, parts, stand, lifted(world, fold(stand, parts)))
+                more = closed_from(world, wish, draw.sample(world.parts(), 1))
+                self.assertIs(is_closed(world, wish, more), True)
+                for parts in (matters(world, wish), more):
+                    for stand in drawn_stands(world, number, 3):
+                        self.go_alike(world, wish, parts, stand, self.with_the_same_fold(draw, world, parts, stand))
+                        self.go_alike(world, wish, parts, stand, lifted(world, fold(stand, parts)))
 
     def with_the_same_fold(self, draw, world, parts, stand):
         for count in range(20):

@@ -414,7 +414,8 @@ class Walks(PlayerCase):
         draw = random.Random(4)
         for world in drawn_worlds(9, 25):
             player = Player(world)
-            rows = [own_row(world, command) for command in commands(world)] + ["undo"] * 6 + ["restart", "old", "take old"]
+            rows = [own_row(world, command) for command in commands(world)] + ["undo"] * 6
+            rows.extend(["restart", "old", "take old"])
             for count in range(30):
                 player.say(draw.choice(rows))
                 stand = first_stand(world)

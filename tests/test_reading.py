@@ -219,7 +219,8 @@ class Phrases(ReadCase):
 
     def test_a_joining_word_that_is_a_ways_word(self):
         world = World(
-            [Thing("hall", ("hall",), "room"), Thing("me", ("me",), "you", "hall"), Thing("cup", ("cup",), "box", "hall")],
+            [Thing("hall", ("hall",), "room"), Thing("me", ("me",), "you", "hall"),
+            Thing("cup", ("cup",), "box", "hall")],
             [], [], [("hall", "in", "hall", None)], [Verb("fill", (), "two", "in")], [],
         )
         stand = first_stand(world)

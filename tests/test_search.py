@@ -5,6 +5,7 @@ import unittest
 
 from cellar import cellar_world, stand_where
 from drawn import drawn_stands, drawn_wishes, drawn_worlds
+from lane import depths_by_stands, fewest, lane_world
 from tellworld.asks import At, Both, Has, Kind, Lit, Marked, Not, Seen, Word
 from tellworld.deeds import Move, Put
 from tellworld.errors import NoWish
@@ -12,36 +13,20 @@ from tellworld.folds import fold, matters
 from tellworld.rules import Rule
 from tellworld.search import find
 from tellworld.stands import first_stand
-from tellworld.steps import commands, step
-from tellworld.things import Mark, Thing, Verb
+from tellworld.steps import step
+from tellworld.things import Mark, Thing
 from tellworld.worlds import World
 from wishes import right_wishes, wrong_wishes
-
-
-def depths_by_stands(world, stand, most):
-    """The fewest commands to each stand that is come to, by stands alone; None where they are more than most."""
-    depths = {stand: 0}
-    waiting = [stand]
-    for here in waiting:
-        for command in commands(world):
-            behind = step(world, here, command)[1]
-            if behind not in depths:
-                depths[behind] = depths[here] + 1
-                waiting.append(behind)
-        if len(depths) > most:
-            return None
-    return depths
 
 
 def expected_find(world, wish, depths):
     """n, or None, and the fewest commands to each fold come to, by what depths_by_stands told."""
     parts = matters(world, wish)
-    met = [depth for stand, depth in depths.items() if wish.holds(world, stand, None)]
     folds = {}
     for stand, depth in depths.items():
         folded = fold(stand, parts)
         folds[folded] = min(depth, folds.get(folded, depth))
-    return (min(met) if met else None, parts, folds)
+    return (fewest(world, wish, depths), parts, folds)
 
 
 class FindCase(unittest.TestCase):
@@ -80,35 +65,28 @@ class FindCase(unittest.TestCase):
 
 
 class Lane(FindCase):
-    """Rooms in a row, so that what is come to is plain to see."""
-
-    def lane(self, rules=(), marks=()):
-        rooms = ["ra", "rb", "rc", "rd", "re"]
-        things = [Thing(name, (name,), "room") for name in rooms] + [Thing("me", ("me",), "you", "ra")]
-        ways = [(rooms[k], "on", rooms[k + 1], None) for k in range(4)] + [("rc", "back", "rb", None)]
-        return World(things, list(marks), [], ways, [Verb("ring", (), "alone")], list(rules))
-
     def fold_at(self, room):
         return ((("at", "me"), room),)
 
     def test_met_at_once(self):
-        world = self.lane()
+        world = lane_world()
         for most in (1, 2, 500):
             self.assertEqual(find(world, first_stand(world), At("me", "ra"), most), ("rows", [], [("at", "me")], []))
             self.assertEqual(find(world, first_stand(world), Kind("me", "you"), most), ("rows", [], [], []))
 
     def test_by_one_and_by_several(self):
-        world = self.lane()
+        world = lane_world()
         self.assertEqual(
             find(world, first_stand(world), At("me", "rb"), 1),
             ("rows", [("go", "on", None)], [("at", "me")], [(self.fold_at("ra"), 0)]),
         )
         told = find(world, first_stand(world), At("me", "rd"), 3)
         self.assertEqual(told[:3], ("rows", [("go", "on", None)] * 3, [("at", "me")]))
-        self.assertEqual(sorted(told[3]), [(self.fold_at(room), depth) for depth, room in enumerate(["ra", "rb", "rc"])])
+        self.assertEqual(sorted(told[3]),
+            [(self.fold_at(room), depth) for depth, room in enumerate(["ra", "rb", "rc"])])
 
     def test_from_another_stand(self):
-        world = self.lane()
+        world = lane_world()
         stand = stand_where(world, {"me": "rc"})
         self.assertEqual(find(world, stand, At("me", "rb"), 9)[1], [("go", "back", None)])
         self.assertEqual(find(world, stand, At("me", "rc"), 9)[1], [])
@@ -116,14 +94,15 @@ class Lane(FindCase):
                       [self.fold_at(room) for room in ("rb", "rc", "rd", "re")])
 
     def test_never(self):
-        world = self.lane(marks=[Mark("bell", 0, 1)])
-        self.is_never(find(world, first_stand(world), Marked("bell", 1), 1), [("mark", "bell")], [((("mark", "bell"), 0),)])
+        world = lane_world(marks=[Mark("bell", 0, 1)])
+        self.is_never(find(world, first_stand(world), Marked("bell", 1), 1), [("mark", "bell")],
+            [((("mark", "bell"), 0),)])
         self.is_never(find(world, first_stand(world), Kind("me", "box"), 1), [], [()])
         stand = stand_where(world, {"me": "re"})
         self.is_never(find(world, stand, At("me", "rd"), 1), [("at", "me")], [self.fold_at("re")])
 
     def test_more_at_the_very_number_and_one_fewer(self):
-        world = self.lane()
+        world = lane_world()
         stand = first_stand(world)
         for count, room in enumerate(["ra", "rb", "rc", "rd", "re"]):
             for most in range(1, 7):
@@ -139,14 +118,14 @@ class Lane(FindCase):
         # By one command all four values are come to, of which one meets the wish.
         rules = [Rule("go", [Word("on")], [Put("bell", 1)], "One."), Rule("go", [], [Put("bell", 2)], "Two."),
                  Rule("ring", [], [Put("bell", 3)], "Three.")]
-        world = self.lane(rules, [Mark("bell", 0, 3)])
+        world = lane_world(rules, [Mark("bell", 0, 3)])
         for value in (1, 2, 3):
             told = find(world, first_stand(world), Marked("bell", value), 1)
             self.assertEqual(told[3], [(((("mark", "bell"), 0),), 0)])
             self.assertEqual(len(told[1]), 1)
 
     def test_waiting_leads_nowhere(self):
-        world = self.lane()
+        world = lane_world()
         told = find(world, first_stand(world), At("me", "re"), 500)
         self.assertEqual(told[1], [("go", "on", None)] * 4)
 
