@@ -2,7 +2,7 @@
 
 from tellworld.asks import things_of
 from tellworld.errors import NoCommand
-from tellworld.seeing import seen
+from tellworld.seeing import is_seen, seen
 
 NOTHING_COMES = "Nothing comes of it."
 CANNOT_BE = "That cannot be."
@@ -59,7 +59,8 @@ def is_object(world, thing):
 
 def step(world, stand, command):
     check_command(world, command)
-    return all_steps(world, stand, [command])[0]
+    in_sight = [name for name in things_of(world, command) if is_seen(world, stand, name)]
+    return answered(world, stand, command, in_sight)
 
 
 def all_steps(world, stand, every):
